@@ -1,0 +1,1 @@
+"""Trialdeal: a house of fair trials."""
