@@ -49,6 +49,12 @@ def dealing_share(rule, dealing):
     return whole
 
 
+def need_dealt(rule, thing):
+    """Refuse what is none of the dealings of a rule."""
+    if dealing_share(rule, thing) == NONE:
+        raise NoDealing(thing)
+
+
 def one_more_dealt(rule, beginnings, at):
     """The beginnings (dealing, share, state) that come of those told by dealing the folk at."""
     longer = []

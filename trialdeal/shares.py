@@ -14,6 +14,15 @@ def greatest_common(one, other):
     return one
 
 
+def common_bottom(several):
+    """The least number that the bottoms of all these shares divide."""
+    bottom = 1
+    for share in several:
+        if bottom % share[1] != 0:
+            bottom = bottom // greatest_common(bottom, share[1]) * share[1]
+    return bottom
+
+
 def is_part(top, bottom):
     """Whether two things are whole numbers such that there can be top parts of bottom."""
     return is_number(bottom) and bottom >= 1 and is_whole(top, 0, bottom)

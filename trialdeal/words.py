@@ -8,6 +8,15 @@ def is_number(thing):
     return isinstance(thing, int) and not isinstance(thing, bool)
 
 
+def has_truth(thing):
+    """Whether a thing is a truth, or one stands anywhere within it."""
+    if isinstance(thing, (list, tuple)):
+        return any([has_truth(part) for part in thing])
+    if isinstance(thing, dict):
+        return any([has_truth(key) or has_truth(thing[key]) for key in thing])
+    return isinstance(thing, bool)
+
+
 def is_whole(thing, low, high):
     """Whether a thing is a whole number from low to high, both counted."""
     return is_number(thing) and low <= thing and thing <= high
