@@ -2,8 +2,8 @@
 
 from trialdeal.errors import NoDealing, TooMany
 from trialdeal.rules import MOST_FOLK
-from trialdeal.shares import ALL, NONE, times_share
-from trialdeal.words import is_whole
+from trialdeal.shares import ALL, NONE, common_bottom, times_share
+from trialdeal.words import is_number, is_whole
 
 MOST_TOLD = 5000
 HANDS = "01"
@@ -25,6 +25,11 @@ def need_hands(thing, folk):
 def hand_of(dealing, at):
     """The hand of the folk at in a dealing."""
     return (dealing >> at) & 1
+
+
+def ones_of(dealing, folk):
+    """Those of so many folk that have hand 1 in a dealing, rising."""
+    return [at for at in range(folk) if hand_of(dealing, at) == 1]
 
 
 def step_to(rule, state, at, hand):
@@ -55,6 +60,12 @@ def need_dealt(rule, thing):
         raise NoDealing(thing)
 
 
+def need_among(thing, dealings):
+    """Refuse what is none of the dealings that are the keys of a dict."""
+    if not is_number(thing) or thing not in dealings:
+        raise NoDealing(thing)
+
+
 def one_more_dealt(rule, beginnings, at):
     """The beginnings (dealing, share, state) that come of those told by dealing the folk at."""
     longer = []
@@ -72,6 +83,13 @@ def all_dealings(rule):
         # Each beginning goes on to one dealing at least, so there are no fewer dealings than these.
         need_few(len(beginnings))
     return sorted([(dealing, share) for dealing, share, state in beginnings])
+
+
+def dealing_parts(rule):
+    """A bottom, and a list of tuples (dealing, top) of all dealings, rising, the share of each being top / bottom."""
+    dealings = all_dealings(rule)
+    bottom = common_bottom([share for dealing, share in dealings])
+    return bottom, [(dealing, share[0] * (bottom // share[1])) for dealing, share in dealings]
 
 
 def hands_text(dealing, folk):

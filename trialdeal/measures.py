@@ -1,8 +1,8 @@
 """Measures: the scores that folk have by what came of all of them, and the value of a dealing by these."""
 
 from trialdeal.dealings import hand_of, need_hands
-from trialdeal.errors import NoFolk, NoPairs, NotSure, NoTrials, NoWeights
-from trialdeal.outcomes import need_outcomes, stands_to
+from trialdeal.errors import NoPairs, NotSure, NoTrials, NoWeights
+from trialdeal.outcomes import need_outcomes_of, stands_to
 from trialdeal.words import is_whole
 
 MOST_WEIGHTS = 6
@@ -47,9 +47,7 @@ class Measure:
 
     def scores(self, rule, outcomes):
         """The scores of all folk of a rule, a list."""
-        need_outcomes(outcomes)
-        if len(outcomes) != rule.folk():
-            raise NoFolk(len(outcomes))
+        need_outcomes_of(outcomes, rule.folk())
         self.need_fit(rule, outcomes)
         return self.scored(rule, outcomes)
 

@@ -29,6 +29,13 @@ def need_outcomes(thing):
         need_outcome(outcome, place)
 
 
+def need_outcomes_of(thing, folk):
+    """Refuse what is no list of outcomes of so many folk."""
+    need_outcomes(thing)
+    if len(thing) != folk:
+        raise NoFolk(len(thing))
+
+
 def surely_greater(one, other):
     """Whether an outcome is greater than another one, whatever those that are not sure may be."""
     # What is at least so much may be greater than anything, so only a sure one is surely outdone.
