@@ -145,6 +145,18 @@ def look_at_imports(path, tree, tops, faults):
             faults.append(f"L15 {path}: {name} is bound more than once at the top")
 
 
+def look_at_locals(path, tree, faults):
+    """No local and no parameter is called like a class or an import of its file."""
+    taken = [node.name for node in tree.body if isinstance(node, ast.ClassDef)]
+    for node in tree.body:
+        if isinstance(node, ast.ImportFrom):
+            taken.extend(alias.asname or alias.name for alias in node.names)
+    for node in ast.walk(tree):
+        given = isinstance(node, ast.Name) and not isinstance(node.ctx, ast.Load)
+        if (given and node.id in taken) or (isinstance(node, ast.arg) and node.arg in taken):
+            faults.append(f"L15 {path}:{node.lineno}: a local is called like a class or an import")
+
+
 def methods_and_values(trees):
     methods, values = set(), set()
     for tree in trees:
@@ -170,6 +182,7 @@ def look_through(package):
     for path, tree in trees.items():
         look_at_signs(path, path.read_text(encoding="utf-8"), faults)
         look_at_imports(path, tree, tops, faults)
+        look_at_locals(path, tree, faults)
         for node in ast.walk(tree):
             look_at_node(path, node, methods, faults)
     return faults

@@ -4,7 +4,7 @@ from trialdeal.dealings import need_few
 from trialdeal.errors import NoTrials, TooMany
 from trialdeal.measures import Weighted, may_be_inner
 from trialdeal.rules import MOST_RULES, Blocks, may_be_block
-from trialdeal.shares import common_bottom, share_of
+from trialdeal.shares import common_bottom
 from trialdeal.tables import share_from, told_spread
 from trialdeal.trials import Trial
 from trialdeal.words import is_whole
